@@ -1,0 +1,1 @@
+"""Moatways: told places joined at little cost, with papers of moats."""
