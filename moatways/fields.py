@@ -44,11 +44,20 @@ class Field:
         return best
 
     def take_full_ways(self):
-        """Take the full ways between different groups, always the one with the least index."""
+        """Take the full ways between different groups, always the one with the least index.
+
+        Return the groups that came into being, in order.
+        """
+        born = []
         way = self._first_full_way()
         while way is not None:
-            self._take(way)
+            born.append(self._take(way))
             way = self._first_full_way()
+        return born
+
+    def paper(self):
+        """All moats that have grown, in ascending order of their places."""
+        return tuple((places, self.widths[places]) for places in sorted(self.widths))
 
     def _ways_between(self):
         """The ways between different groups."""
@@ -67,8 +76,10 @@ class Field:
         return minus((cost, 1), plus(self._depths[a], self._depths[b]))
 
     def _take(self, way):
+        """Take the way and return the group that comes into being."""
         a, b, _ = self._ways[way]
         joined = tuple(sorted(self._homes[a] + self._homes[b]))
         for place in joined:
             self._homes[place] = joined
         self.taken.append((self.time, way))
+        return joined

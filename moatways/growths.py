@@ -30,7 +30,7 @@ def told(net, pairs):
 def moats(net, pairs):
     """The paper of all moats that have grown, in ascending order of their places."""
     field, _ = _grown(net, pairs)
-    return tuple((places, field.widths[places]) for places in sorted(field.widths))
+    return field.paper()
 
 
 def _grown(net, pairs):

@@ -2,6 +2,11 @@
 
 from moatways.errors import Apart
 
+MOST_PLACES = 12
+MOST_WAYS = 24
+MOST_COST = 10000
+MOST_PAIRS = 6
+
 
 def groups(net, choice):
     """The groups of the choice, ordered by their first places."""
@@ -31,6 +36,11 @@ def spare(net, pairs, choice):
     return None
 
 
+def every_way(net):
+    """The choice of all ways."""
+    return tuple(range(len(net[1])))
+
+
 def without(choice, way):
     """The choice less one of its ways."""
     return tuple(other for other in choice if other != way)
@@ -38,7 +48,7 @@ def without(choice, way):
 
 def check_joined(net, pairs):
     """Raise Apart if not even all ways together join the pairs."""
-    homes = _homes(net, tuple(range(len(net[1]))))
+    homes = _homes(net, every_way(net))
     for index, (a, b) in enumerate(pairs):
         if homes[a] != homes[b]:
             raise Apart(index)

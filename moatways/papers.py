@@ -1,7 +1,7 @@
 """The judges of papers, and their worth."""
 
 from moatways.nets import parts_pair
-from moatways.ratios import ZERO, less, plus
+from moatways.ratios import ZERO, less, minus, plus
 
 
 def is_paper(net, pairs, paper):
@@ -28,8 +28,14 @@ def is_fine_paper(net, root, fines, paper):
         and all(root not in moat[0] for moat in paper)
         and _are_nested(paper)
         and _ways_bear(net, paper)
-        and all(_fines_bear(fines, places, paper) for places, width in paper)
+        and all(not less(rest_of_fines(fines, moat[0], paper), ZERO) for moat in paper)
     )
+
+
+def rest_of_fines(fines, places, paper):
+    """The fines of the places less the widths of the moats around them and within."""
+    inner = [moat for moat in paper if _lies_within(moat[0], places)]
+    return minus((sum(fines[place] for place in places), 1), worth(inner))
 
 
 def _has_form(net, paper):
@@ -69,12 +75,6 @@ def _are_nested(paper):
 def _fit(first, second):
     shared = len([place for place in first if place in second])
     return shared in (0, len(first), len(second))
-
-
-def _fines_bear(fines, places, paper):
-    """Tell whether the moats around and within the places are at most as wide as their fines."""
-    inner = [moat for moat in paper if _lies_within(moat[0], places)]
-    return not less((sum(fines[place] for place in places), 1), worth(inner))
 
 
 def _lies_within(inner, outer):

@@ -3,8 +3,11 @@
 import unittest
 
 from moatways.growths import growth, moats, moments, told
+from moatways.least import least_price
 from moatways.nets import joins, price, spare
 from moatways.papers import is_paper, worth
+from moatways.texts import read_task, write_task
+from moatways.yard import Yard
 from tests.helper import choices
 
 NET = (4, ((0, 1, 4), (1, 2, 4), (2, 3, 4), (0, 3, 20)))
@@ -38,3 +41,16 @@ class Example(unittest.TestCase):
         for choice in choices(NET):
             if joins(NET, PAIRS, choice):
                 self.assertGreaterEqual(price(NET, choice), 8)
+
+    def test_the_least_price(self):
+        self.assertEqual(least_price(NET, PAIRS), 12)
+
+    def test_in_a_yard_and_as_a_text(self):
+        yard = Yard(4)
+        for a, b, cost in NET[1]:
+            yard.build(a, b, cost)
+        for a, b in PAIRS:
+            yard.want(a, b)
+        self.assertEqual(yard.task(), (NET, PAIRS))
+        self.assertEqual(yard.told(), (0, 1, 2))
+        self.assertEqual(read_task(write_task(NET, PAIRS)), (NET, PAIRS))

@@ -4,10 +4,11 @@ import unittest
 from fractions import Fraction
 from math import gcd
 
+from moatways.fines import fine_moats
 from moatways.growths import growth, moats, moments
 from moatways.papers import worth
 from moatways.ratios import ZERO, less, minus, plus, ratio
-from tests.helper import as_fraction, as_ratio, small_tasks
+from tests.helper import as_fraction, as_ratio, fine_tasks, small_tasks
 
 
 class Ratios(unittest.TestCase):
@@ -46,6 +47,14 @@ class RatiosOfAnswers(unittest.TestCase):
             paper = moats(net, pairs)
             for _, width in paper:
                 self.check(width)
+            self.check(worth(paper))
+
+    def test_widths_and_worths_with_fines(self):
+        for net, root, fines in fine_tasks(150, 21):
+            paper = fine_moats(net, root, fines)
+            for _, width in paper:
+                self.check(width)
+                self.assertGreater(width[0], 0)
             self.check(worth(paper))
 
     def test_a_worth_that_cancels(self):
